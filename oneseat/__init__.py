@@ -1,0 +1,1 @@
+"""Oneseat: a seat that goes one way round."""
