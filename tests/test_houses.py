@@ -8,43 +8,15 @@ from oneseat.errors import BadErrand, BadHouse, BadNumber, TooMany
 from oneseat.houses import (
     ends, greatest, is_house, lies_over, loads, need_house, rolled, started, with_errand, without,
 )
-from tests.samples import HUGE, bad_houses, no_errands, no_numbers, refusal
+from tests.samples import (
+    EMPTY_2, EMPTY_16, FULL, HUGE, MIXED, bad_houses, no_errands, no_numbers, plain, refusal, sample_houses, walked,
+)
 
-EMPTY_2 = (2, 0, ())
-EMPTY_16 = (16, 15, ())
-# Once round, more than once round, thrice round, alike ones, and one over the last step.
-MIXED = (5, 3, ((0, 5), (4, 2), (2, 13), (2, 13), (1, 15), (4, 1)))
-FULL = (16, 7, tuple((number % 16, number + 1) for number in range(40)))
 SIGNATURES = {
     "is_house": "(thing)", "need_house": "(house)", "ends": "(house)", "loads": "(house)",
     "lies_over": "(house, number)", "greatest": "(house)", "with_errand": "(house, errand)",
     "without": "(house, number)", "started": "(house, floor)", "rolled": "(house, many)",
 }
-
-
-def sample_houses():
-    """Give houses of all sizes of ring, with errands of all lengths by some."""
-    told = [EMPTY_2, (2, 1, ()), EMPTY_16, (16, 0, ()), MIXED, FULL]
-    for floors in range(2, 17):
-        every = [(begin, steps) for begin in (0, floors - 1) for steps in range(1, 3 * floors + 1)]
-        told = told + [(floors, floors - 1, tuple(every[at:at + 40])) for at in range(0, len(every), 40)]
-        told.append((floors, 0, ((0, 1), (floors - 1, 3 * floors), (floors - 1, 3 * floors))))
-    return told
-
-
-def walked(floors, errand):
-    """Go an errand step by step; give how often it lies over each step, and its end."""
-    floor, steps = errand
-    often = [0] * floors
-    for _ in range(steps):
-        often[floor] += 1
-        floor = 0 if floor == floors - 1 else floor + 1
-    return often, floor
-
-
-def plain(thing):
-    """Tell whether the thing is tuples and ints throughout, and nothing else."""
-    return type(thing) is int or type(thing) is tuple and all(plain(part) for part in thing)
 
 
 class Good(unittest.TestCase):
