@@ -44,7 +44,7 @@ def lots(house, *, rounds=None):
     told = {}
     for floor in touched(house, rounds=many):
         told.setdefault(names[floor], []).append(floor)
-    return tuple(tuple(lot) for lot in told.values())
+    return tuple([tuple(lot) for lot in told.values()])
 
 
 def lot_of(house, floor, *, rounds=None):
@@ -61,7 +61,7 @@ def lot_rounds(house, *, rounds=None):
     """Tell how often each lot goes round by itself."""
     many = rounds_or_greatest(house, rounds)
     gone = _steps_from(house, many)
-    return tuple(sum([gone[floor] for floor in lot]) // house[0] for lot in lots(house, rounds=many))
+    return tuple([sum([gone[floor] for floor in lot]) // house[0] for lot in lots(house, rounds=many)])
 
 
 def bears(house, *, rounds=None):

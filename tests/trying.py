@@ -173,3 +173,153 @@ def good_rides():
         for many in (most, most + 1, most + 2):
             told += [(house, ride) for ride in Tries(house, many).rides(limit=2)]
     return told
+
+
+class Begun:
+    """What is left by so many rounds behind first moves, kept as a list of arrows, each gone by its own name."""
+
+    def __init__(self, house, many):
+        self.floors, self.start, self.errands = house
+        self.floor = self.start
+        self.spare = [many - load for load in loads_by_walking(house)]
+        self.waits = list(range(len(self.errands)))
+
+    def there(self):
+        told = [None] if self.spare[self.floor] else []
+        return told + [number for number in self.waits if self.errands[number][0] == self.floor]
+
+    def go(self, move):
+        if move is None:
+            self.spare[self.floor] -= 1
+            self.floor = (self.floor + 1) % self.floors
+        else:
+            self.waits.remove(move)
+            self.floor = (self.floor + self.errands[move][1]) % self.floors
+
+    def arrows(self):
+        told = [(step, (step + 1) % self.floors) for step in range(self.floors) for _ in range(self.spare[step])]
+        for number in self.waits:
+            begin, steps = self.errands[number]
+            told.append((begin, (begin + steps) % self.floors))
+        return told
+
+    def lost(self):
+        """Give the floors from which arrows go that never lead to the start, each found by going on from it."""
+        arrows = set(self.arrows())
+        told = []
+        for floor in sorted({begin for begin, _ in arrows}):
+            seen, new = set(), {floor}
+            while new:
+                seen |= new
+                new = {end for begin, end in arrows if begin in seen} - seen
+            if self.start not in seen:
+                told.append(floor)
+        return tuple(told)
+
+
+def begun_by(house, begun, many):
+    """Give what is left behind first moves that can be done."""
+    left = Begun(house, many)
+    for move in begun:
+        assert move in left.there()
+        left.go(move)
+    return left
+
+
+def first_bad_begun(house, thing, many):
+    """Give "good" of first moves that can be done, else what their refusal must tell."""
+    if type(thing) is not tuple:
+        return None
+    left = Begun(house, many)
+    for number, move in enumerate(thing):
+        if type(move) not in (int, type(None)) or move not in left.there():
+            return number
+        left.go(move)
+    return "good"
+
+
+def beginnings(house, many, limit):
+    """Give first moves that can be done, of any number of moves, so many of them at the most."""
+    told = [()]
+    for begun in told:
+        for move in begun_by(house, begun, many).there():
+            if len(told) < limit:
+                told.append(begun + (move,))
+    return told
+
+
+def loose_walk(house, loose):
+    """Go a loose ride step by step; give its rounds and its settings down."""
+    floors, start, errands = house
+    assert type(loose) is tuple
+    lying = {number: begin for number, (begin, _) in enumerate(errands)}
+    due = {number: steps for number, (_, steps) in enumerate(errands)}
+    floor, gone, told = start, 0, []
+    for move in loose:
+        if move is None:
+            number, part = None, 1
+        else:
+            assert type(move) is tuple and len(move) == 2
+            number, part = move
+            assert type(number) is int and type(part) is int and part >= 1
+            assert lying[number] == floor and due[number] >= part, (house, loose)
+        for _ in range(part):
+            gone += 1
+            floor = 0 if floor == floors - 1 else floor + 1
+        if number is not None:
+            lying[number] = floor
+            due[number] -= part
+            if due[number]:
+                told.append((number, floor))
+    assert floor == start and not any(due.values()), (house, loose)
+    assert gone % floors == 0
+    return gone // floors, tuple(told)
+
+
+def first_bad_loose(house, thing):
+    """Give "good" of a loose ride, else what its refusal must tell."""
+    if type(thing) is not tuple:
+        return None
+    floors, start, errands = house
+    things = {number: list(errand) for number, errand in enumerate(errands)}
+    floor = start
+    for number, move in enumerate(thing):
+        if move is None:
+            floor = (floor + 1) % floors
+            continue
+        if type(move) is not tuple or [type(part) for part in move] != [int, int] or move[0] not in things:
+            return number
+        carried = things[move[0]]
+        if carried[0] != floor or not 1 <= move[1] <= carried[1]:
+            return number
+        floor = (floor + move[1]) % floors
+        carried[:] = [floor, carried[1] - move[1]]
+    done = all(steps == 0 for _, steps in things.values())
+    return "good" if floor == start and done else len(thing)
+
+
+def fewest_by_trying(house, many):
+    """Give the fewest settings down of loose rides of so many rounds, by trying all; None where there is none."""
+    floors, start, errands = house
+    total = many * floors
+    known = {}
+
+    def fewest(gone, due):
+        """Give the fewest from here on; no number is infinite here, None stands for it."""
+        if gone == total:
+            return 0 if not any(due) else None
+        if (gone, due) in known:
+            return known[gone, due]
+        floor = (start + gone) % floors
+        told = [fewest(gone + 1, due)]
+        for number, (begin, steps) in enumerate(errands):
+            if (begin + steps - due[number]) % floors != floor:
+                continue
+            for part in range(1, min(due[number], total - gone) + 1):
+                less = due[:number] + (due[number] - part,) + due[number + 1:]
+                further = fewest(gone + part, less)
+                told.append(further if further is None or not less[number] else further + 1)
+        known[gone, due] = min([number for number in told if number is not None], default=None)
+        return known[gone, due]
+
+    return fewest(0, tuple(steps for _, steps in errands))
