@@ -1,5 +1,6 @@
 """Houses: a ring, where the seat starts, and the errands that wait."""
 
+from oneseat.arrows import ends_of, loads_of
 from oneseat.errors import BadErrand, BadHouse, TooMany
 from oneseat.words import MOST_ERRANDS, MOST_FLOORS, is_errand, is_whole, need_whole
 
@@ -32,19 +33,13 @@ def need_house(house):
 def ends(house):
     """Tell the end of each errand, in order."""
     need_house(house)
-    floors, _, errands = house
-    return tuple((begin + steps) % floors for begin, steps in errands)
+    return tuple(ends_of(house))
 
 
 def loads(house):
     """Tell the load of each step."""
     need_house(house)
-    floors, _, errands = house
-    told = [0] * floors
-    for errand in errands:
-        for step, often in enumerate(_lying(floors, errand)):
-            told[step] += often
-    return tuple(told)
+    return tuple(loads_of(house))
 
 
 def lies_over(house, number):
@@ -52,7 +47,9 @@ def lies_over(house, number):
     need_house(house)
     floors, _, errands = house
     need_whole(number, most=len(errands) - 1)
-    return tuple(_lying(floors, errands[number]))
+    begin, steps = errands[number]
+    rounds, rest = divmod(steps, floors)
+    return tuple([rounds + (1 if (step - begin) % floors < rest else 0) for step in range(floors)])
 
 
 def greatest(house):
@@ -94,10 +91,3 @@ def rolled(house, many):
     need_whole(many, least=None)
     moved = tuple(((begin + many) % floors, steps) for begin, steps in errands)
     return (floors, (start + many) % floors, moved)
-
-
-def _lying(floors, errand):
-    """List how often the errand lies over each step."""
-    begin, steps = errand
-    rounds, rest = divmod(steps, floors)
-    return [rounds + (1 if (step - begin) % floors < rest else 0) for step in range(floors)]

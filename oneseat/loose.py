@@ -1,11 +1,10 @@
 """Loose rides: what is carried may be set down on the way."""
 
+from oneseat.arrows import bare_by, goes_from, left_at_first, loads_of, lot_with, lots_of, rows_left, way, way_home
 from oneseat.errors import BadLoose, TooFew
-from oneseat.houses import greatest, need_house
-from oneseat.least import ride_of
-from oneseat.lots import bears, lot_of, lots, rounds_or_greatest
-from oneseat.rides import need_ride
-from oneseat.underway import left_at_first, rows_left, way
+from oneseat.houses import need_house
+from oneseat.lots import bare
+from oneseat.rides import steps_of
 from oneseat.words import is_whole
 
 
@@ -20,8 +19,8 @@ def is_loose(house, thing):
 
 def loose_rounds(house):
     """Tell the least rounds, loose."""
-    many = greatest(house)
-    return many if many == 0 or bears(house) else many + 1
+    need_house(house)
+    return max(loads_of(house)) + (0 if _does_greatest(house) else 1)
 
 
 def rounds_loose(house, loose):
@@ -38,40 +37,48 @@ def downs(house, loose):
 
 def fewest_downs(house, *, rounds=None):
     """Tell the fewest settings down of loose rides of so many rounds."""
-    many = _rounds_or_loose(house, rounds)
-    return len(lots(house)) - 1 if many == greatest(house) else 0
+    spare = _bare_or_loose(house, rounds)
+    # Only by GREATEST some step is never bare.
+    return len(lots_of(house, (house[1],), spare)) - 1 if min(spare) == 0 else 0
 
 
 def loose_ride(house, *, rounds=None):
     """Give a loose ride of so many rounds with the fewest settings down."""
-    many = _rounds_or_loose(house, rounds)
-    if many > greatest(house):
-        return loosened(house, ride_of(house, rounds=many))
-    rows = rows_left(house, left_at_first(house, many))
-    ways = _ways_of_others(house, rows)
+    spare = _bare_or_loose(house, rounds)
+    left = left_at_first(house, spare)
+    if min(spare) > 0:
+        return _whole(house, way_home(house, left))
+    rows = rows_left(house, left)
+    ways = _ways_of_others(house, spare, rows)
     home = way(rows, house[1])
     cuts = _cuts(house, home, list(ways))
-    told = ()
+    told = []
     for move in home:
-        told = told + _with_cuts(house, move, cuts.get(move, []), ways)
-    return told
+        told.extend(_with_cuts(house, move, cuts.get(move, []), ways))
+    return tuple(told)
 
 
 def loosened(house, ride):
     """Give the loose ride in which all errands of the ride are carried whole."""
-    need_ride(house, ride)
+    need_house(house)
+    steps_of(house, ride)
     return _whole(house, ride)
 
 
-def _rounds_or_loose(house, rounds):
-    """Give the rounds asked for, the least loose ones for None; refuse no number of rounds, and too few."""
-    least = loose_rounds(house)
+def _does_greatest(house):
+    """Tell whether a good house has loose rides of GREATEST rounds."""
+    loads = loads_of(house)
+    return max(loads) == 0 or goes_from(house, house[1], bare_by(loads, max(loads)))
+
+
+def _bare_or_loose(house, rounds):
+    """Tell how often each step is bare, by the least rounds, loose, for None; refuse no number of rounds, too few."""
     if rounds is None:
-        return least
-    many = rounds_or_greatest(house, rounds)
-    if many < least:
-        raise TooFew(least)
-    return many
+        return bare(house, rounds=loose_rounds(house))
+    spare = bare(house, rounds=rounds)
+    if min(spare) == 0 and not _does_greatest(house):
+        raise TooFew(rounds + 1)
+    return spare
 
 
 def _walked(house, loose):
@@ -115,13 +122,14 @@ def _is_pair(thing, floor, lying, due):
 def _whole(house, moves):
     """Give the moves with all errands carried whole."""
     errands = house[2]
-    return tuple(move if move is None else (move, errands[move][1]) for move in moves)
+    return tuple([move if move is None else (move, errands[move][1]) for move in moves])
 
 
-def _ways_of_others(house, rows):
+def _ways_of_others(house, spare, rows):
     """Give for the first floor of each lot but the start's the loose way round through that lot."""
-    home = lot_of(house, house[1])
-    return {lot[0]: _whole(house, way(rows, lot[0])) for lot in lots(house) if lot != home}
+    told = lots_of(house, (house[1],), spare)
+    home = lot_with(told, house[1])
+    return {lot[0]: _whole(house, way(rows, lot[0])) for lot in told if lot != home}
 
 
 def _cuts(house, home, marks):
@@ -144,12 +152,14 @@ def _cuts(house, home, marks):
 
 
 def _with_cuts(house, move, cuts, ways):
-    """Give the moves of one move, with the ways round that are gone where it's set down."""
+    """List the moves of one move, with the ways round that are gone where it's set down."""
     if move is None:
-        return (None,)
-    told = ()
+        return [None]
+    told = []
     carried = 0
     for part, mark in sorted(cuts):
-        told = told + ((move, part - carried),) + ways[mark]
+        told.append((move, part - carried))
+        told.extend(ways[mark])
         carried = part
-    return told + ((move, house[2][move][1] - carried),)
+    told.append((move, house[2][move][1] - carried))
+    return told

@@ -1,87 +1,63 @@
 """Lots: floors that hang together by errands and bare steps."""
 
+from oneseat.arrows import bare_by, ends_of, goes_from, loads_of, lot_with, lots_of
 from oneseat.errors import TooFew
-from oneseat.houses import ends, greatest, loads, need_house
+from oneseat.houses import need_house
 from oneseat.words import MOST_ROUNDS, need_whole
-
-
-def rounds_or_greatest(house, rounds):
-    """Give the rounds asked for, GREATEST for None; refuse no number of rounds, and too few."""
-    need_house(house)
-    least = greatest(house)
-    if rounds is None:
-        return least
-    need_whole(rounds, most=MOST_ROUNDS)
-    if rounds < least:
-        raise TooFew(least)
-    return rounds
 
 
 def bare(house, *, rounds=None):
     """Tell how often each step is bare."""
-    many = rounds_or_greatest(house, rounds)
-    return tuple(many - load for load in loads(house))
+    need_house(house)
+    loads = loads_of(house)
+    least = max(loads)
+    if rounds is None:
+        return bare_by(loads, least)
+    need_whole(rounds, most=MOST_ROUNDS)
+    if rounds < least:
+        raise TooFew(least)
+    return bare_by(loads, rounds)
 
 
 def touched(house, *, rounds=None):
     """Tell the touched floors, rising."""
-    many = rounds_or_greatest(house, rounds)
-    start = house[1]
-    seen = {start}
-    for begin, end in _links(house, many):
-        seen.add(begin)
-        seen.add(end)
-    return tuple(sorted(seen))
+    spare = bare(house, rounds=rounds)
+    floors, start, errands = house
+    seen = [often > 0 or spare[step - 1] > 0 for step, often in enumerate(spare)]
+    seen[start] = True
+    for errand, end in zip(errands, ends_of(house)):
+        seen[errand[0]] = True
+        seen[end] = True
+    return tuple([floor for floor in range(floors) if seen[floor]])
 
 
 def lots(house, *, rounds=None):
     """Tell the lots, rising."""
-    many = rounds_or_greatest(house, rounds)
-    names = list(range(house[0]))
-    for begin, end in _links(house, many):
-        old, new = names[end], names[begin]
-        names = [new if name == old else name for name in names]
-    told = {}
-    for floor in touched(house, rounds=many):
-        told.setdefault(names[floor], []).append(floor)
-    return tuple([tuple(lot) for lot in told.values()])
+    return tuple(_lots_by(house, bare(house, rounds=rounds)))
 
 
 def lot_of(house, floor, *, rounds=None):
     """Tell the lot of the floor, () where it isn't touched."""
-    told = lots(house, rounds=rounds)
+    spare = bare(house, rounds=rounds)
     need_whole(floor, most=house[0] - 1)
-    for lot in told:
-        if floor in lot:
-            return lot
-    return ()
+    return lot_with(_lots_by(house, spare), floor)
 
 
 def lot_rounds(house, *, rounds=None):
     """Tell how often each lot goes round by itself."""
-    many = rounds_or_greatest(house, rounds)
-    gone = _steps_from(house, many)
-    return tuple([sum([gone[floor] for floor in lot]) // house[0] for lot in lots(house, rounds=many)])
+    spare = bare(house, rounds=rounds)
+    gone = list(spare)
+    for begin, steps in house[2]:
+        gone[begin] += steps
+    return tuple([sum([gone[floor] for floor in lot]) // house[0] for lot in _lots_by(house, spare)])
 
 
 def bears(house, *, rounds=None):
     """Tell whether the lot of the start bears."""
-    many = rounds_or_greatest(house, rounds)
-    # As many moves come to each floor as go from it, so a lot that bears has some from each of its floors.
-    return _steps_from(house, many)[house[1]] > 0
+    spare = bare(house, rounds=rounds)
+    return goes_from(house, house[1], spare)
 
 
-def _steps_from(house, many):
-    """List how many steps are gone in all by the moves from each floor, by so many rounds."""
-    told = list(bare(house, rounds=many))
-    for begin, steps in house[2]:
-        told[begin] += steps
-    return told
-
-
-def _links(house, many):
-    """List both floors of each errand, and of each step that is bare by so many rounds."""
-    floors, _, errands = house
-    carried = [(errand[0], end) for errand, end in zip(errands, ends(house))]
-    spare = bare(house, rounds=many)
-    return carried + [(step, (step + 1) % floors) for step in range(floors) if spare[step] > 0]
+def _lots_by(house, spare):
+    """List the lots of the house, with steps so often bare."""
+    return lots_of(house, (house[1],), spare)

@@ -1,35 +1,39 @@
 """Rides: moves that take each errand once and come back to the start."""
 
+from oneseat.arrows import ends_of, is_taken_at
 from oneseat.errors import BadRide
-from oneseat.houses import ends, need_house
-from oneseat.words import is_whole
+from oneseat.houses import need_house
 
 
-def need_ride(house, ride):
-    """Refuse with BadRide what is no ride, by the number of the first move that can't be."""
-    need_house(house)
+def steps_of(house, ride):
+    """Tell how many steps a ride of a good house goes; refuse what is none by the number of the first bad move."""
     if not isinstance(ride, tuple):
         raise BadRide()
     floors, start, errands = house
-    targets = ends(house)
-    taken = [False] * len(errands)
+    targets = ends_of(house)
+    waits = [True] * len(errands)
     floor = start
+    gone = 0
     for number, move in enumerate(ride):
         if move is None:
+            gone += 1
             floor = (floor + 1) % floors
-        elif is_whole(move, most=len(errands) - 1) and errands[move][0] == floor and not taken[move]:
-            taken[move] = True
+        elif is_taken_at(house, floor, waits, move):
+            waits[move] = False
+            gone += errands[move][1]
             floor = targets[move]
         else:
             raise BadRide(number)
-    if floor != start or not all(taken):
+    if floor != start or any(waits):
         raise BadRide(len(ride))
+    return gone
 
 
 def is_ride(house, thing):
     """Tell whether thing is a ride of the house."""
+    need_house(house)
     try:
-        need_ride(house, thing)
+        steps_of(house, thing)
     except BadRide:
         return False
     return True
@@ -37,13 +41,14 @@ def is_ride(house, thing):
 
 def rounds_of(house, ride):
     """Tell the rounds of the ride."""
-    need_ride(house, ride)
-    return sum(_lengths(house, ride)) // house[0]
+    need_house(house)
+    return steps_of(house, ride) // house[0]
 
 
 def halts(house, ride):
     """Tell the floors at which the seat stands, ahead of the first move and behind each."""
-    need_ride(house, ride)
+    need_house(house)
+    steps_of(house, ride)
     floors, start, _ = house
     told = [start]
     for steps in _lengths(house, ride):
@@ -53,7 +58,8 @@ def halts(house, ride):
 
 def taken_at(house, ride):
     """Tell for each errand, in order, how many steps are gone ahead of it."""
-    need_ride(house, ride)
+    need_house(house)
+    steps_of(house, ride)
     told = [0] * len(house[2])
     gone = 0
     for move, steps in zip(ride, _lengths(house, ride)):
@@ -65,8 +71,9 @@ def taken_at(house, ride):
 
 def order_of(house, ride):
     """Tell the errands' numbers as they are taken."""
-    need_ride(house, ride)
-    return tuple(move for move in ride if move is not None)
+    need_house(house)
+    steps_of(house, ride)
+    return tuple([move for move in ride if move is not None])
 
 
 def _lengths(house, ride):

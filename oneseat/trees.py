@@ -2,9 +2,9 @@
 
 from math import factorial
 
+from oneseat.arrows import left_at_first, left_by
 from oneseat.errors import BadRows
-from oneseat.least import rounds_or_least
-from oneseat.underway import left_at_first, left_by, rows_left
+from oneseat.least import bare_or_least
 from oneseat.words import is_whole
 
 _MOST_ROWS = 20
@@ -13,38 +13,43 @@ _MOST_ROWS = 20
 def determinant(rows):
     """Tell the determinant of a square of whole numbers."""
     _need_square(rows)
-    left = [list(row) for row in rows]
-    sign = 1
-    last = 1
-    while left:
-        at = _first_with_more(left)
-        if at is None:
-            return 0
-        if at > 0:
-            left[0], left[at] = left[at], left[0]
-            sign = -sign
-        pivot = left[0][0]
-        left = _without_first(left, last)
-        last = pivot
-    return sign * last
+    return _worth(rows)
 
 
 def trees(house, *, rounds=None):
     """Tell how many trees there are by so many rounds."""
-    many = rounds_or_least(house, rounds)
-    return _trees_left(house, _moves_between(house, left_at_first(house, many)))
+    spare = bare_or_least(house, rounds)
+    return _trees_left(house, _moves_between(house, left_at_first(house, spare)))
 
 
 def how_many_rides(house, *, rounds=None):
     """Tell how many rides of so many rounds there are."""
-    many = rounds_or_least(house, rounds)
-    return _rides_left(house, left_at_first(house, many))
+    spare = bare_or_least(house, rounds)
+    return ways_left(house, left_at_first(house, spare))
 
 
 def rides_on(house, begun, *, rounds=None):
     """Tell how many rides of so many rounds begin so."""
-    many = rounds_or_least(house, rounds)
-    return _rides_left(house, left_by(house, begun, many))
+    spare = bare_or_least(house, rounds)
+    return ways_left(house, left_by(house, begun, spare))
+
+
+def ways_left(house, left):
+    """Tell in how many ways all that is left can be gone, to the start."""
+    many = _moves_between(house, left)
+    told = _trees_left(house, many)
+    if told == 0:
+        return 0
+    for floor, row in enumerate(many):
+        away = sum(row)
+        if floor == house[1]:
+            told *= factorial(away)
+        elif away > 1:
+            told *= factorial(away - 1)
+    for often in left[1]:
+        if often > 1:
+            told //= factorial(often)
+    return told
 
 
 def _need_square(rows):
@@ -58,32 +63,63 @@ def _need_square(rows):
             raise BadRows("a row holds what is no whole number")
 
 
-def _first_with_more(rows):
+def _worth(rows):
+    """Tell the determinant of the rows."""
+    sign = 1
+    last = 1
+    # With each row stands the pivot by which it was changed last: rows that a pivot leaves alone cost nothing so.
+    left = [(1, row) for row in rows]
+    while left:
+        at = _first_with_more(left)
+        if at is None:
+            return 0
+        if at > 0:
+            left[0], left[at] = left[at], left[0]
+            sign = -sign
+        by, first = left[0]
+        if by != last:
+            first = [number * last // by for number in first]
+        left = _without_first(first, left[1:])
+        last = first[0]
+    return sign * last
+
+
+def _first_with_more(left):
     """Tell the place of the first row that doesn't begin with 0, or None."""
-    for at, row in enumerate(rows):
+    for at, (_, row) in enumerate(left):
         if row[0] != 0:
             return at
     return None
 
 
-def _without_first(rows, last):
-    """Take the first row and the first column away, so that the determinant of what is left stays in reach.
+def _without_first(first, left):
+    """Take the first column out of the rows that are left, by the first row.
 
-    Dividing by the last pivot leaves no rest (Bareiss), so all numbers stay whole and none grows beyond a minor.
+    Dividing by the pivot of the last change leaves no rest (Bareiss), so all
+    numbers stay whole and none grows beyond a minor.
     """
-    first = rows[0]
-    return [
-        [(first[0] * number - row[0] * above) // last for number, above in zip(row[1:], first[1:])] for row in rows[1:]
-    ]
+    pivot = first[0]
+    aboves = first[1:]
+    told = []
+    for by, row in left:
+        lead = row[0]
+        if lead == 0:
+            told.append((by, row[1:]))
+        else:
+            told.append((pivot, [(pivot * number - lead * above) // by for number, above in zip(row[1:], aboves)]))
+    return told
 
 
 def _moves_between(house, left):
     """List for each floor how many moves are left from it to each floor."""
-    floors = house[0]
+    floors, _, errands = house
+    _, spare, waiting = left
     told = [[0] * floors for _ in range(floors)]
-    for floor, row in enumerate(rows_left(house, left)):
-        for move in row:
-            told[floor][move[1]] += 1
+    for step, often in enumerate(spare):
+        told[step][(step + 1) % floors] = often
+    for number in waiting:
+        begin, steps = errands[number]
+        told[begin][(begin + steps) % floors] += 1
     return told
 
 
@@ -92,21 +128,7 @@ def _trees_left(house, many):
     inner = [floor for floor in range(house[0]) if floor != house[1] and sum(many[floor]) > 0]
     rows = []
     for floor in inner:
-        away = sum(many[floor]) - many[floor][floor]
-        rows.append(tuple(away if other == floor else -many[floor][other] for other in inner))
-    return determinant(tuple(rows))
-
-
-def _rides_left(house, left):
-    """Tell in how many ways all that is left can be gone."""
-    many = _moves_between(house, left)
-    told = _trees_left(house, many)
-    for floor, row in enumerate(many):
-        away = sum(row)
-        if floor == house[1]:
-            told *= factorial(away)
-        elif away > 0:
-            told *= factorial(away - 1)
-    for often in left[1]:
-        told //= factorial(often)
-    return told
+        row = [-many[floor][other] for other in inner]
+        row[len(rows)] = sum(many[floor]) - many[floor][floor]
+        rows.append(row)
+    return _worth(rows)

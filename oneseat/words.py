@@ -29,4 +29,7 @@ def is_errand(thing, *, floors):
     if not isinstance(thing, tuple) or len(thing) != 2:
         return False
     begin, steps = thing
-    return is_whole(begin, most=floors - 1) and is_whole(steps, least=1, most=3 * floors)
+    # Asked of each errand of each house that is handed in, so it's asked here at once, without is_whole.
+    if not isinstance(begin, int) or not isinstance(steps, int) or isinstance(begin, bool) or isinstance(steps, bool):
+        return False
+    return 0 <= begin < floors and 0 < steps <= 3 * floors
