@@ -38,23 +38,38 @@ def bare_by(loads, many):
     return tuple([many - load for load in loads])
 
 
-def lots_of(house, marks, spare):
-    """List the lots of the marked floors and of all that errands and bare steps join, rising.
+def joined_by(arrows, joined, seen):
+    """Give for each floor the mask of those that arrows join it to, and the mask of all that they touch.
 
-    In masks of floors the bit of floor F is 1 << F.
+    In a mask the bit of floor F is 1 << F. Joined and seen are what others join and touch already.
     """
-    floors = house[0]
-    joined = [1 << floor for floor in range(floors)]
-    seen = 0
-    for mark in marks:
-        seen |= 1 << mark
-    for begin, end in _arrows(house, spare):
+    for begin, end in arrows:
         seen |= 1 << begin | 1 << end
         if joined[begin] != joined[end]:
             both = joined[begin] | joined[end]
             joined = [both if mask & both else mask for mask in joined]
+    return joined, seen
+
+
+def carried(house):
+    """List both floors of each errand."""
+    floors, _, errands = house
+    return [(begin, (begin + steps) % floors) for begin, steps in errands]
+
+
+def bare_ones(spare):
+    """List both floors of each step that is bare."""
+    floors = len(spare)
+    return [(step, (step + 1) % floors) for step, often in enumerate(spare) if often > 0]
+
+
+def lots_of(house, marks, spare):
+    """List the lots of the marked floors and of all that errands and bare steps join, rising."""
+    singles = [1 << floor for floor in range(house[0])]
+    marked = sum([1 << mark for mark in marks])
+    joined, seen = joined_by(carried(house) + bare_ones(spare), singles, marked)
     told = {}
-    for floor in range(floors):
+    for floor in range(house[0]):
         if seen >> floor & 1:
             told.setdefault(joined[floor], []).append(floor)
     return [tuple(lot) for lot in told.values()]
@@ -212,13 +227,6 @@ def way(rows, floor):
     # The pair that stood ahead of all moves came out last.
     told.pop()
     return tuple(told[::-1])
-
-
-def _arrows(house, spare):
-    """List both floors of each errand, and of each step that is bare."""
-    floors, _, errands = house
-    carried = [(begin, (begin + steps) % floors) for begin, steps in errands]
-    return carried + [(step, (step + 1) % floors) for step in range(floors) if spare[step] > 0]
 
 
 def _target(house, floor, move):
