@@ -189,7 +189,7 @@ def barred_of(house, left):
     return (good[0],)
 
 
-def way_home(house, left):
+def way_on(house, left):
     """Give the moves of a way through all that is left, that must lead home."""
     floor, spare, waiting = left
     # Where each step is bare more than once yet, whole rounds of bare steps may as well be gone at last.

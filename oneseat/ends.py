@@ -1,6 +1,6 @@
 """Ends: the seat that needn't come home, other starts, one errand more, and many days."""
 
-from oneseat.arrows import bare_by, bare_ones, carried, joined_by, least_of, left_at_first, loads_of, lots_of, way_home
+from oneseat.arrows import bare_by, bare_ones, carried, joined_by, least_of, left_at_first, loads_of, lots_of, way_on
 from oneseat.errors import BadErrand, TooMany
 from oneseat.houses import need_house
 from oneseat.words import MOST_ERRANDS, is_errand, need_whole
@@ -20,7 +20,7 @@ def end_row(house, floor):
     need_house(house)
     need_whole(floor, most=house[0] - 1)
     more = _led_home(house, floor)
-    told = way_home(more, left_at_first(more, least_of(more)[1]))
+    told = way_on(more, left_at_first(more, least_of(more)[1]))
     number = len(house[2])
     if number not in told:
         return told

@@ -1,6 +1,6 @@
 """The least rounds, and a ride of so many rounds."""
 
-from oneseat.arrows import least_of, left_at_first, lots_of, way_home
+from oneseat.arrows import least_of, left_at_first, lots_of, way_on
 from oneseat.errors import TooFew
 from oneseat.houses import need_house
 from oneseat.lots import bare
@@ -34,4 +34,4 @@ def ride_of(house, *, rounds=None):
     # Only by GREATEST, asked for, some step is never bare and there may be several lots.
     if rounds is not None and min(spare) == 0 and len(lots_of(house, (house[1],), spare)) > 1:
         raise TooFew(rounds + 1)
-    return way_home(house, left_at_first(house, spare))
+    return way_on(house, left_at_first(house, spare))

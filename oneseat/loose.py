@@ -1,6 +1,6 @@
 """Loose rides: what is carried may be set down on the way."""
 
-from oneseat.arrows import bare_by, goes_from, left_at_first, loads_of, lot_with, lots_of, rows_left, way, way_home
+from oneseat.arrows import bare_by, goes_from, left_at_first, loads_of, lot_with, lots_of, rows_left, way, way_on
 from oneseat.errors import BadLoose, TooFew
 from oneseat.houses import need_house
 from oneseat.lots import bare
@@ -47,7 +47,7 @@ def loose_ride(house, *, rounds=None):
     spare = _bare_or_loose(house, rounds)
     left = left_at_first(house, spare)
     if min(spare) > 0:
-        return _whole(house, way_home(house, left))
+        return _whole(house, way_on(house, left))
     rows = rows_left(house, left)
     ways = _ways_of_others(house, spare, rows)
     home = way(rows, house[1])

@@ -1,6 +1,6 @@
 """Under way: which moves can be next, which of them bars the rest, and how to go on."""
 
-from oneseat.arrows import barred_of, ends_of, left_after, left_at_first, left_by, moves_there, strays, way_home
+from oneseat.arrows import barred_of, ends_of, left_after, left_at_first, left_by, moves_there, strays, way_on
 from oneseat.errors import NotOpen
 from oneseat.least import bare_or_least
 
@@ -35,7 +35,7 @@ def left_behind(house, begun, *, rounds=None):
 def goes_on(house, begun, *, rounds=None):
     """Give a ride of so many rounds that begins so."""
     spare = bare_or_least(house, rounds)
-    return begun + way_home(house, _open_left(house, begun, spare))
+    return begun + way_on(house, _open_left(house, begun, spare))
 
 
 def first_ones(house, *, rounds=None):

@@ -1,11 +1,14 @@
-"""The greatest sizes, whole numbers and errands."""
+"""The greatest sizes, whole numbers, errands, and the words of texts."""
 
-from oneseat.errors import BadNumber
+from oneseat.errors import BadNumber, BadText
 
 MOST_FLOORS = 16
 MOST_ERRANDS = 40
 MOST_ROUNDS = 130
 MOST_SEATS = 6
+
+_MOST_FIGURES = 20
+_MOST_SIGNS = 20000
 
 
 def is_whole(thing, *, least=0, most=None):
@@ -33,3 +36,20 @@ def is_errand(thing, *, floors):
     if not isinstance(begin, int) or not isinstance(steps, int) or isinstance(begin, bool) or isinstance(steps, bool):
         return False
     return 0 <= begin < floors and 0 < steps <= 3 * floors
+
+
+def number_in(word, *, least=0, most=None):
+    """Give the number that a word tells by figures, or None where it tells none from least to most."""
+    if not word.isascii() or not word.isdigit() or len(word) > _MOST_FIGURES:
+        return None
+    if len(word) > 1 and word[0] == "0":
+        return None
+    number = int(word)
+    return number if is_whole(number, least=least, most=most) else None
+
+
+def lines_in(text):
+    """Give the lines of a text, each as the list of its words; refuse what is no text, or too long, with BadText."""
+    if not isinstance(text, str) or len(text) > _MOST_SIGNS:
+        raise BadText(0, 0)
+    return [line.split(" ") for line in text.split("\n")]

@@ -29,7 +29,8 @@ SAMPLES = sample_houses() + [TWO_LOTS, LAIN_OVER, SIXTEEN_LOTS, HEAVIEST] + part
 
 def all_starts(floors, most=6):
     """Give all starts of up to so many seats."""
-    return [starts for many in range(1, min(most, floors) + 1) for starts in itertools.combinations(range(floors), many)]
+    counts = range(1, min(most, floors) + 1)
+    return [starts for many in counts for starts in itertools.combinations(range(floors), many)]
 
 
 def some_starts(chance, floors):
@@ -293,7 +294,8 @@ class Rides(unittest.TestCase):
             for at, ride in enumerate(rides):
                 for place in {0, len(ride) // 2, max(0, len(ride) - 1), len(ride)}:
                     for thing in no_moves() + [None] + list(range(len(house[2]) + 1)):
-                        for spoilt in (ride[:place] + (thing,) + ride[place:], ride[:place] + (thing,) + ride[place + 1:]):
+                        for behind in (place, place + 1):
+                            spoilt = ride[:place] + (thing,) + ride[behind:]
                             self.check(house, starts, rides[:at] + (spoilt,) + rides[at + 1:])
                     self.check(house, starts, rides[:at] + (ride[:place],) + rides[at + 1:])
             self.check(house, starts, rides[::-1])

@@ -4,8 +4,8 @@ import inspect
 import unittest
 
 from oneseat import words
-from oneseat.errors import BadNumber
-from oneseat.words import is_errand, is_whole, need_whole
+from oneseat.errors import BadNumber, BadText
+from oneseat.words import is_errand, is_whole, lines_in, need_whole, number_in
 from tests.samples import HUGE, no_errands, no_numbers, refusal
 
 
@@ -103,6 +103,42 @@ class IsErrand(unittest.TestCase):
             is_errand((0, 1), 2)
         with self.assertRaises(TypeError):
             is_errand((0, 1))
+
+
+class NumberIn(unittest.TestCase):
+    def test_figures(self):
+        for word, number in (
+            ("0", 0), ("1", 1), ("9", 9), ("10", 10), ("130", 130), ("9" * 20, 10 ** 20 - 1),
+            ("1" + "0" * 19, 10 ** 19),
+        ):
+            self.assertEqual(number_in(word), number)
+            self.assertIs(type(number_in(word)), int)
+
+    def test_no_figures(self):
+        for word in ("", " ", "00", "01", "0" * 20, "-1", "+1", "-0", "1.0", "1_0", " 1", "1 ", "1\n", "x", "1x", "0x1",
+                     "\u0661", "\u00b2", "\uff11", "1\u0661", "9" * 21, "1" + "0" * 20, "1" * 5000):
+            self.assertIsNone(number_in(word), word[:30])
+
+    def test_bounds(self):
+        for word, least, most, number in (
+            ("2", 2, 16, 2), ("16", 2, 16, 16), ("1", 2, 16, None), ("17", 2, 16, None), ("0", 0, 0, 0),
+            ("1", 0, 0, None), ("5", 6, None, None), ("6", 6, None, 6), ("0", 1, None, None),
+        ):
+            self.assertEqual(number_in(word, least=least, most=most), number)
+
+
+class LinesIn(unittest.TestCase):
+    def test_lines_and_words(self):
+        for text, rows in (
+            ("", [[""]]), (" ", [["", ""]]), ("a b", [["a", "b"]]), ("a  b ", [["a", "", "b", ""]]),
+            ("a\nb c\n", [["a"], ["b", "c"], [""]]), ("x" * 20_000, [["x" * 20_000]]), ("a\tb\rc", [["a\tb\rc"]]),
+        ):
+            self.assertEqual(lines_in(text), rows)
+
+    def test_no_texts(self):
+        for thing in [thing for thing in no_numbers() if not isinstance(thing, str)] + ["x" * 20_001, "\n" * 20_001]:
+            told = refusal(BadText, lines_in, thing)
+            self.assertEqual((told.row, told.word), (0, 0))
 
 
 if __name__ == "__main__":
